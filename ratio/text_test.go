@@ -91,25 +91,25 @@ func parsed(s string) (api.Ratio, bool) {
 
 // TestParseAll: P4.5 for all strings of up to six bytes over a small alphabet.
 func TestParseAll(t *testing.T) {
-	found := 0
-	l := []string{""}
-	for range 7 {
-		var next []string
-		for _, s := range l {
-			want, ok := parsed(s)
-			parse(t, s, want, ok)
-			if ok {
-				found++
-			}
-			for _, c := range "-+/0126 " {
-				next = append(next, s+string(c))
-			}
-		}
-		l = next
-	}
-	if found < 1000 {
+	if found := parseFrom(t, "", 6); found < 1000 {
 		t.Errorf("only %d of the strings are texts", found)
 	}
+}
+
+// parseFrom parses s, and all strings that begin with it and have up to more bytes behind it, and returns how many of them are texts.
+func parseFrom(t *testing.T, s string, more int) int {
+	want, ok := parsed(s)
+	parse(t, s, want, ok)
+	found := 0
+	if ok {
+		found = 1
+	}
+	if more > 0 {
+		for _, c := range "-+/0126 " {
+			found += parseFrom(t, s+string(c), more-1)
+		}
+	}
+	return found
 }
 
 // TestParseNear: P4.5 for all strings that come from a text by a byte that is changed, left out or put in.
